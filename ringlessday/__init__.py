@@ -1,0 +1,1 @@
+"""Ringlessday: railway days as orders, and orders as one web."""

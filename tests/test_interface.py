@@ -1,0 +1,90 @@
+"""The names and parameters of the interface, and the files and classes in which they are defined."""
+
+import importlib
+import inspect
+import unittest
+
+FUNCTIONS = {
+    "names": {"is_name": "(value)", "is_number": "(value, least, most)", "is_end": "(value)", "is_entry": "(value)"},
+    "tracktext": {"track_text": "(track)", "read_track": "(text)"},
+    "walks": {"begin": "(track, mark)", "outward": "(track, end)", "walks": "(track, mark)"},
+    "routes": {"all_routes": "(track)", "disagree": "(one, other)"},
+    "clears": {"distances": "(layout, train)", "clear_within": "(layout, train, step, element)",
+               "clear_of_stand": "(layout, train)"},
+}
+NO_ARGUMENTS = "(self)"
+CLASSES = {
+    "sections": {"Section": {
+        "__init__": "(self, name, length)", "sides": NO_ARGUMENTS, "ends": NO_ARGUMENTS, "ways": "(self, side)",
+        "text": NO_ARGUMENTS, "__eq__": "(self, other)", "__repr__": NO_ARGUMENTS}},
+    "track": {"Track": {
+        "__init__": NO_ARGUMENTS, "put": "(self, section)", "tie": "(self, one, other)",
+        "border": "(self, name, end)", "signal": "(self, name, end)", "untie": "(self, end)", "drop": "(self, name)",
+        "sections": NO_ARGUMENTS, "section": "(self, name)", "marks": NO_ARGUMENTS, "mark": "(self, name)",
+        "joints": NO_ARGUMENTS, "beyond": "(self, end)", "mark_at": "(self, end)", "twin": NO_ARGUMENTS,
+        "__contains__": "(self, x)", "__len__": NO_ARGUMENTS, "__bool__": NO_ARGUMENTS, "__eq__": "(self, other)",
+        "__repr__": NO_ARGUMENTS}},
+    "routes": {"Route": {
+        "sections": NO_ARGUMENTS, "names": NO_ARGUMENTS, "lengths": NO_ARGUMENTS, "demand": NO_ARGUMENTS,
+        "flanks": NO_ARGUMENTS, "askers": "(self, point)", "__len__": NO_ARGUMENTS, "__eq__": "(self, other)",
+        "__repr__": NO_ARGUMENTS}},
+    "layouts": {"Layout": {
+        "__init__": "(self, track)", "track": NO_ARGUMENTS, "routes": NO_ARGUMENTS, "route_of": "(self, name)",
+        "routes_from": "(self, mark)", "element_names": NO_ARGUMENTS, "is_point": "(self, element)",
+        "disagreements": "(self, one, other)", "clash": "(self, one, other)", "__contains__": "(self, x)",
+        "__len__": NO_ARGUMENTS, "__bool__": NO_ARGUMENTS, "__eq__": "(self, other)", "__repr__": NO_ARGUMENTS}},
+    "trains": {
+        "Step": {"__init__": "(self, route, times, *, stop=0, public=None)", "times": NO_ARGUMENTS,
+                 "__eq__": "(self, other)", "__repr__": NO_ARGUMENTS},
+        "Train": {"__init__": "(self, name, length, *steps, out=1)", "steps": NO_ARGUMENTS, "__getitem__": "(self, at)",
+                  "longer": "(self, by)", "__len__": NO_ARGUMENTS, "__bool__": NO_ARGUMENTS,
+                  "__eq__": "(self, other)", "__repr__": NO_ARGUMENTS}},
+    "plans": {"Plan": {
+        "__init__": "(self, layout, *trains, turns=(), waits=())", "trains": NO_ARGUMENTS, "train_of": "(self, name)",
+        "entries": NO_ARGUMENTS, "step_of": "(self, entry)", "route_of": "(self, entry)", "demand_of": "(self, entry)",
+        "place_of": "(self, entry)", "clear_of": "(self, entry, element)", "turns": NO_ARGUMENTS,
+        "waits": NO_ARGUMENTS, "made_of": "(self, name)", "made_into": "(self, name)", "chain": "(self, name)",
+        "with_train": "(self, train)", "__contains__": "(self, x)", "__len__": NO_ARGUMENTS, "__bool__": NO_ARGUMENTS,
+        "__eq__": "(self, other)", "__repr__": NO_ARGUMENTS}},
+}
+PROPERTIES = {"trains": {"Step": ["arrival", "base"]}}
+KINDS = ["Plain", "Point", "Crossing"]
+
+
+def file_of(name):
+    return importlib.import_module(f"ringlessday.{name}")
+
+
+class InterfaceTest(unittest.TestCase):
+    def test_functions(self):
+        for file, functions in FUNCTIONS.items():
+            for name, parameters in functions.items():
+                found = getattr(file_of(file), name)
+                self.assertEqual(found.__module__, f"ringlessday.{file}")
+                self.assertEqual(str(inspect.signature(found)), parameters, name)
+
+    def test_methods_are_defined_in_the_class_itself(self):
+        for file, classes in CLASSES.items():
+            for name, methods in classes.items():
+                kind = getattr(file_of(file), name)
+                self.assertEqual(kind.__module__, f"ringlessday.{file}")
+                for method, parameters in methods.items():
+                    self.assertIn(method, vars(kind), f"{name}.{method}")
+                    self.assertEqual(str(inspect.signature(vars(kind)[method])), parameters, f"{name}.{method}")
+
+    def test_properties(self):
+        for file, classes in PROPERTIES.items():
+            for name, properties in classes.items():
+                for one in properties:
+                    self.assertIsInstance(vars(getattr(file_of(file), name))[one], property)
+
+    def test_kinds_of_sections(self):
+        for name in KINDS:
+            self.assertEqual(getattr(file_of("sections"), name).__module__, "ringlessday.sections")
+
+    def test_walks_is_a_generator(self):
+        self.assertTrue(inspect.isgeneratorfunction(file_of("walks").walks))
+
+
+if __name__ == "__main__":
+    unittest.main()
