@@ -13,6 +13,8 @@ class Layout:
     def __init__(self, track):
         self._track = track.twin()
         self._routes = {route.name: route for route in all_routes(self._track)}
+        # Plans ask for these again and again.
+        self._clashes = {name: self._clashes_of(name) for name in self._routes}
 
     def track(self):
         return self._track.twin()
@@ -36,7 +38,7 @@ class Layout:
         return element in self._track and isinstance(self._track.section(element), Point)
 
     def disagreements(self, one, other):
-        return disagree(self.route_of(one).demand(), self.route_of(other).demand())
+        return list(self._clashes[self.route_of(one).name][self.route_of(other).name])
 
     def clash(self, one, other):
         return self.disagreements(one, other) != []
@@ -55,3 +57,8 @@ class Layout:
 
     def __repr__(self):
         return f"Layout({len(self._routes)} routes)"
+
+    def _clashes_of(self, name):
+        """For each route the elements at which it disagrees with the one of a name."""
+        demand = self._routes[name].demand()
+        return {route.name: disagree(demand, route.demand()) for route in self._routes.values()}

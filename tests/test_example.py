@@ -21,6 +21,13 @@ EXAMPLE = r'''
 >>> plan = Plan(layout, a, b)
 >>> [plan.clear_of(("a", 0), "w"), plan.clear_of(("a", 0), "q"), plan.clear_of(("a", 0), "u"), plan.clear_of(("a", 2), "f"), plan.clear_of(("b", 1), "e")]
 [('a', 0, 11), ('a', 0, 11), ('a', 1, 5), ('a', 2, 7), ('b', 1, 11)]
+>>> from ringlessday.safety import Safety
+>>> safety = Safety(plan)
+>>> [safety.never_sticks, safety.doomed(), safety.stuck(), safety.bars()]
+[False, [(1, 1), (2, 1)], [(2, 1)], [((0, 1), 'a'), ((1, 0), 'b'), ((2, 0), 'b')]]
+>>> trap = safety.trap()
+>>> [trap.holds(plan), trap.hindrances(), trap.ring()]
+[True, [('a', 'f', 'b'), ('b', 'e', 'a')], ['a', 'b']]
 '''
 
 

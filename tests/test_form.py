@@ -9,6 +9,8 @@ import tokenize
 import unittest
 
 PACKAGE = os.path.join(os.path.dirname(os.path.dirname(os.path.abspath(__file__))), "ringlessday")
+# The name _ is one only behind a doctest.
+BUILTINS = set(dir(builtins)) - {"_"}
 ALLOWED_BUILTINS = set(
     "len range enumerate zip min max sum abs sorted reversed int str bool list tuple dict set isinstance ord repr any "
     "all divmod iter next Exception ValueError TypeError KeyError IndexError LookupError ZeroDivisionError "
@@ -185,12 +187,12 @@ class FormTest(unittest.TestCase):
             for name, node in form.bound():
                 method = isinstance(node, ast.FunctionDef) and isinstance(form.parents[node], ast.ClassDef)
                 self.check("L12", form, node, re.fullmatch(r"_?[A-Za-z][A-Za-z0-9_]*|_", name) or method)
-                self.check("L15", form, node, method or not hasattr(builtins, name))
+                self.check("L15", form, node, method or name not in BUILTINS)
                 self.check("L17", form, node, name not in BARRED_NAMES)
                 if not isinstance(node, ast.ClassDef):
                     self.check("L15", form, node, method or name not in classes_and_imports)
             for node in form.nodes(ast.Name):
-                if hasattr(builtins, node.id):
+                if node.id in BUILTINS:
                     self.check("L8", form, node, node.id in ALLOWED_BUILTINS)
             for node in form.nodes(ast.Attribute):
                 self.check("L17", form, node, node.attr not in ("register", "mro", "elements", "open", "input", "law"))

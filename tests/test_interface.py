@@ -11,8 +11,18 @@ FUNCTIONS = {
     "routes": {"all_routes": "(track)", "disagree": "(one, other)"},
     "clears": {"distances": "(layout, train)", "clear_within": "(layout, train, step, element)",
                "clear_of_stand": "(layout, train)"},
+    "records": {"record_text": "(machine)", "play_record": "(plan, text)", "play_row": "(plan, row)"},
+    "standings": {"size": "(plan)", "lets": "(plan, standing)", "after": "(plan, standing, train)",
+                  "hindrance": "(plan, standing, train)", "locked": "(plan, standing)",
+                  "entry_rows": "(plan, standing)"},
 }
 NO_ARGUMENTS = "(self)"
+MACHINE = {
+    "__init__": "(self, plan)", "ask": "(self, train)", "would": "(self, train)", "move": "(self, train)",
+    "run": "(self, train)", "run_all": NO_ARGUMENTS, "deeds": "(self, *deeds)", "history": NO_ARGUMENTS,
+    "back": NO_ARGUMENTS, "keeper": "(self, element)", "guards": "(self, element)", "position": "(self, element)",
+    "body": "(self, train)", "passed": "(self, train)", "has_arrived": "(self, train, step)", "twin": NO_ARGUMENTS,
+    "__repr__": NO_ARGUMENTS}
 CLASSES = {
     "sections": {"Section": {
         "__init__": "(self, name, length)", "sides": NO_ARGUMENTS, "ends": NO_ARGUMENTS, "ways": "(self, side)",
@@ -46,8 +56,24 @@ CLASSES = {
         "waits": NO_ARGUMENTS, "made_of": "(self, name)", "made_into": "(self, name)", "chain": "(self, name)",
         "with_train": "(self, train)", "__contains__": "(self, x)", "__len__": NO_ARGUMENTS, "__bool__": NO_ARGUMENTS,
         "__eq__": "(self, other)", "__repr__": NO_ARGUMENTS}},
+    "locks": {"Locks": {
+        "__init__": "(self, layout, trains)", "lock": "(self, train, demand)", "let_go": "(self, train, element, use)",
+        "pass_on": "(self, train, other)", "keeper": "(self, element)", "guards": "(self, element)",
+        "position": "(self, element)", "held_by": "(self, train)", "guarded_by": "(self, train)",
+        "against": "(self, demand)", "twin": NO_ARGUMENTS}},
+    "machine": {"Machine": MACHINE},
+    "safety": {
+        "Safety": {"__init__": "(self, plan)", "reached": NO_ARGUMENTS, "safe": NO_ARGUMENTS, "doomed": NO_ARGUMENTS,
+                   "stuck": NO_ARGUMENTS, "is_safe": "(self, standing)", "lead": "(self, standing)",
+                   "behind": "(self, standing)", "bars": NO_ARGUMENTS, "trap": NO_ARGUMENTS},
+        "Trap": {"__init__": "(self, row, hindrances, ring)", "row": NO_ARGUMENTS, "hindrances": NO_ARGUMENTS,
+                 "ring": NO_ARGUMENTS, "holds": "(self, plan)"}},
+    "guards": {"GuardedMachine": {**MACHINE, "choices": NO_ARGUMENTS}},
 }
-PROPERTIES = {"trains": {"Step": ["arrival", "base"]}}
+OF_MACHINES = ["standing", "free", "is_over", "busy"]
+PROPERTIES = {"trains": {"Step": ["arrival", "base"]}, "locks": {"Locks": ["free"]}, "machine": {"Machine": OF_MACHINES},
+              "guards": {"GuardedMachine": OF_MACHINES}, "safety": {"Safety": ["never_sticks"]}}
+GENERATORS = {"walks": "walks", "standings": "entry_rows"}
 KINDS = ["Plain", "Point", "Crossing"]
 
 
@@ -82,8 +108,9 @@ class InterfaceTest(unittest.TestCase):
         for name in KINDS:
             self.assertEqual(getattr(file_of("sections"), name).__module__, "ringlessday.sections")
 
-    def test_walks_is_a_generator(self):
-        self.assertTrue(inspect.isgeneratorfunction(file_of("walks").walks))
+    def test_generators(self):
+        for file, name in GENERATORS.items():
+            self.assertTrue(inspect.isgeneratorfunction(getattr(file_of(file), name)))
 
 
 if __name__ == "__main__":
