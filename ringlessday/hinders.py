@@ -107,8 +107,8 @@ class Hinders:
         """The pairs (element, clear for the first entry) at which two entries disagree."""
         if (one, later) not in self._known_overlaps:
             routes = [self.plan.step_of(entry).route for entry in (one, later)]
-            elements = self.plan.layout.disagreements(routes[0], routes[1])
-            self._known_overlaps[(one, later)] = [(element, self.plan.clear_of(one, element)) for element in elements]
+            shared = self.plan.layout.disagreements(routes[0], routes[1])
+            self._known_overlaps[(one, later)] = [(element, self.plan.clear_of(one, element)) for element in shared]
         return self._known_overlaps[(one, later)]
 
 
