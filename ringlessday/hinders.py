@@ -1,5 +1,7 @@
 """What hinders the next entries of a plan in its standings."""
 
+from ringlessday.ties import shared
+
 
 class Hinders:
     """A plan with what has been found out about its standings; nothing is found out twice."""
@@ -99,16 +101,15 @@ class Hinders:
 
     def _locker(self, standing, name, clear):
         """The train that locks what a train has locked: itself, or the one that is made of it and has begun."""
-        if clear is None or clear[0] == name or not self.is_made(standing, clear[0], 0):
+        if clear is None or not self.is_made(standing, clear[0], 0):
             return name
         return clear[0]
 
     def _overlaps_of(self, one, later):
         """The pairs (element, clear for the first entry) at which two entries disagree."""
         if (one, later) not in self._known_overlaps:
-            routes = [self.plan.step_of(entry).route for entry in (one, later)]
-            shared = self.plan.layout.disagreements(routes[0], routes[1])
-            self._known_overlaps[(one, later)] = [(element, self.plan.clear_of(one, element)) for element in shared]
+            found = [(element, self.plan.clear_of(one, element)) for element in shared(self.plan, one, later)]
+            self._known_overlaps[(one, later)] = found
         return self._known_overlaps[(one, later)]
 
 

@@ -1,5 +1,7 @@
 """What the document says of machines and standings, written down once more in the plainest way, for comparison."""
 
+from itertools import combinations
+
 from ringlessday.errors import Finished, Lacking, NothingLeft, Refused, Unready
 
 
@@ -254,3 +256,100 @@ class PlainStandings:
             met.append(train)
             train = self.hindrance(standing, train)[2]
         return met[met.index(train):]
+
+
+def chains_differ(plan, one, other):
+    return other[0] not in plan.chain(one[0])
+
+
+class PlainWeb:
+    """The ties and bars of a table, by their definitions."""
+
+    def __init__(self, table):
+        plan = table.plan
+        self.entries = plan.entries()
+        self.ties = set()
+        self.bars = set()
+        for one in self.entries:
+            step = plan.step_of(one)
+            if (one[0], one[1] + 1) in self.entries:
+                self.ties.add((one, (one[0], one[1] + 1), step.arrival + step.stop, "run"))
+            elif plan.made_into(one[0]):
+                heir = plan.made_into(one[0])
+                time = [turn[2] for turn in plan.turns() if turn[0] == heir][0]
+                self.ties.add((one, (heir, 0), step.arrival + time, "turn"))
+        for name, at, other, its, time in plan.waits():
+            self.ties.add(((other, its), (name, at), plan.step_of((other, its)).arrival + time, "wait"))
+        self.add_locks(table)
+        self.ties, self.bars = sorted(self.ties), sorted(self.bars)
+
+    def add_locks(self, table):
+        plan = table.plan
+        for one, later in combinations(self.entries, 2):
+            if not chains_differ(plan, one, later):
+                self.add_pair(plan, one, later, "own")
+        for pair in table_pairs(plan):
+            one = table.first_of(pair)
+            self.add_pair(plan, one, pair[1] if one == pair[0] else pair[0], "clash")
+
+    def add_pair(self, plan, one, later, reason):
+        for element in disagreements(plan.demand_of(one), plan.demand_of(later)):
+            clear = plan.clear_of(one, element)
+            if clear is None:
+                self.bars.add((one, later, element))
+            else:
+                self.ties.add((clear[:2], later, clear[2], reason))
+
+    def rings(self):
+        """All rings, each of them once, with the least entry first."""
+        found = []
+
+        def go(ring):
+            for tie in self.ties:
+                if tie[0] == ring[-1][1]:
+                    if tie[1] == ring[0][0]:
+                        found.append(ring + [tie])
+                    elif tie[1] > ring[0][0] and tie[1] not in [row[0] for row in ring]:
+                        go(ring + [tie])
+
+        for tie in self.ties:
+            if tie[1] > tie[0]:
+                go([tie])
+        return found
+
+    def has_ring(self):
+        left = list(self.entries)
+        while True:
+            free = [entry for entry in left if not any(tie[1] == entry and tie[0] in left for tie in self.ties)]
+            if not free:
+                return bool(left)
+            left = [entry for entry in left if entry not in free]
+
+    def is_runnable(self):
+        return not self.bars and not self.has_ring()
+
+    def row(self):
+        """The row of the first entries in order."""
+        row = []
+        while len(row) < len(self.entries):
+            row.append([entry for entry in self.entries if entry not in row
+                        and all(tie[0] in row for tie in self.ties if tie[1] == entry)][0])
+        return row
+
+    def ways(self, entry):
+        """All ways to an entry, in a web without rings."""
+        found = [[]]
+        for tie in self.ties:
+            if tie[1] == entry:
+                found += [way + [tie] for way in self.ways(tie[0])]
+        return found
+
+    def sum_of(self, plan, way, entry):
+        begun = way[0][0] if way else entry
+        return plan.step_of(begun).base + sum(tie[2] for tie in way)
+
+
+def table_pairs(plan):
+    """The pairs of a plan, by their definition."""
+    return [(one, other) for one, other in combinations(plan.entries(), 2)
+            if chains_differ(plan, one, other) and disagreements(plan.demand_of(one), plan.demand_of(other))]

@@ -15,6 +15,10 @@ FUNCTIONS = {
     "standings": {"size": "(plan)", "lets": "(plan, standing)", "after": "(plan, standing, train)",
                   "hindrance": "(plan, standing, train)", "locked": "(plan, standing)",
                   "entry_rows": "(plan, standing)"},
+    "orders": {"pairs": "(plan)", "is_row": "(plan, value)"},
+    "tables": {"tables": "(plan)", "forced": "(plan, known)"},
+    "moments": {"longest": "(table, one, other)"},
+    "fits": {"limits": "(table, *wishes)", "fit": "(table, *wishes)"},
 }
 NO_ARGUMENTS = "(self)"
 MACHINE = {
@@ -69,11 +73,28 @@ CLASSES = {
         "Trap": {"__init__": "(self, row, hindrances, ring)", "row": NO_ARGUMENTS, "hindrances": NO_ARGUMENTS,
                  "ring": NO_ARGUMENTS, "holds": "(self, plan)"}},
     "guards": {"GuardedMachine": {**MACHINE, "choices": NO_ARGUMENTS}},
+    "orders": {"Table": {
+        "__init__": "(self, plan, firsts)", "firsts": NO_ARGUMENTS, "is_ahead": "(self, one, other)",
+        "turned": "(self, at)", "first_of": "(self, pair)", "__len__": NO_ARGUMENTS, "__bool__": NO_ARGUMENTS,
+        "__eq__": "(self, other)", "__repr__": NO_ARGUMENTS}},
+    "webs": {"Web": {
+        "__init__": "(self, table)", "ties": NO_ARGUMENTS, "into": "(self, entry)", "out_of": "(self, entry)",
+        "bars": NO_ARGUMENTS, "ring": NO_ARGUMENTS, "row": NO_ARGUMENTS, "is_ring": "(self, value)"}},
+    "moments": {"Moments": {
+        "__init__": "(self, table, delays=None)", "moment": "(self, entry)", "moments": NO_ARGUMENTS,
+        "way": "(self, entry)", "slack": "(self, tie)"}},
+    "fits": {
+        "Fit": {"least": "(self, entry)", "greatest": "(self, entry)", "earliest": NO_ARGUMENTS,
+                "is_day": "(self, moments)", "__bool__": NO_ARGUMENTS},
+        "Unfit": {"__init__": "(self, table, wishes, ring)", "ring": NO_ARGUMENTS, "holds": NO_ARGUMENTS,
+                  "__bool__": NO_ARGUMENTS}},
 }
+CLASS_METHODS = {"orders": {"Table": {"of_row": "(plan, row)"}}}
 OF_MACHINES = ["standing", "free", "is_over", "busy"]
 PROPERTIES = {"trains": {"Step": ["arrival", "base"]}, "locks": {"Locks": ["free"]}, "machine": {"Machine": OF_MACHINES},
-              "guards": {"GuardedMachine": OF_MACHINES}, "safety": {"Safety": ["never_sticks"]}}
-GENERATORS = {"walks": "walks", "standings": "entry_rows"}
+              "guards": {"GuardedMachine": OF_MACHINES}, "safety": {"Safety": ["never_sticks"]},
+              "webs": {"Web": ["is_runnable"]}, "moments": {"Moments": ["last"]}}
+GENERATORS = {"walks": "walks", "standings": "entry_rows", "tables": "tables"}
 KINDS = ["Plain", "Point", "Crossing"]
 
 
@@ -97,6 +118,14 @@ class InterfaceTest(unittest.TestCase):
                 for method, parameters in methods.items():
                     self.assertIn(method, vars(kind), f"{name}.{method}")
                     self.assertEqual(str(inspect.signature(vars(kind)[method])), parameters, f"{name}.{method}")
+
+    def test_class_methods(self):
+        for file, classes in CLASS_METHODS.items():
+            for name, methods in classes.items():
+                kind = getattr(file_of(file), name)
+                for method, parameters in methods.items():
+                    self.assertIsInstance(vars(kind)[method], classmethod)
+                    self.assertEqual(str(inspect.signature(getattr(kind, method))), parameters, f"{name}.{method}")
 
     def test_properties(self):
         for file, classes in PROPERTIES.items():

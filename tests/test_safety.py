@@ -237,6 +237,7 @@ class TrapTest(Case):
         self.same([trap.row(), trap.hindrances(), trap.ring()], [[("a", 0), ["x"]], [["y"]], ["a"]])
         trap.row()[1].append("spoilt")
         trap.ring().clear()
+        trap.hindrances()[0].append("spoilt")
         self.same([trap.row(), trap.hindrances(), trap.ring()], [[("a", 0), ["x"]], [["y"]], ["a"]])
         inside = Trap([(["x"], "a")], None, None)
         inside.row()[0][0].append("spoilt")
