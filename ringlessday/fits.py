@@ -75,7 +75,7 @@ class Unfit:
 
     def holds(self):
         ring = self._ring
-        if not isinstance(ring, (list, tuple)) or len(ring) == 0:
+        if not isinstance(ring, (list, tuple)):
             return False
         known = limits_of(self._table, self._wishes)
         if not all([is_limit(row) and row in known for row in ring]):

@@ -82,7 +82,7 @@ def ring_through(entries, ties):
     if left == []:
         return None
     # Each entry that is left has a tie from another one that is left, so the way back goes round in the end.
-    back = {tie[1]: tie for tie in ties if tie[0] in left and tie[1] in left}
+    back = {tie[1]: tie for tie in ties if tie[0] in left}
     met = []
     here = left[0]
     while here not in met:

@@ -27,7 +27,10 @@ CROSS = Layout(track_of("plain a 15; plain b 15; crossing x 5; plain c 30; plain
 SHORT = Layout(track_of("plain x 20; plain y 30; plain z 10; plain o 10; plain v 20; joint o.a z.b; joint o.b v.a;"
                         "joint x.b y.a; joint y.b z.a; border west x.a; border east v.b; signal ey y.b; signal ez z.b;"
                         "signal eo o.b; signal wy y.a; signal wz z.a; signal wo o.a"))
-LAYOUTS = [PLACE, LINE, STAND_ON_POINT, LINK, CROSS, SHORT]
+# A loop that is entered and left over one point.
+LOOP = Layout(track_of("plain w 20; point p 5; plain k 50; joint k.a p.left; joint k.b p.right; joint p.stem w.b;"
+                       "border west w.a; signal s k.b; signal t k.a"))
+LAYOUTS = [PLACE, LINE, STAND_ON_POINT, LINK, CROSS, SHORT, LOOP]
 
 
 def some_train(chance, layout, name, starts, length, most_steps):

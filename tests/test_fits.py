@@ -149,7 +149,10 @@ class FitTest(Case):
         found = fit(TABLE)
         for entry in ENTRIES:
             self.same(found.is_day({one: EARLY[one] for one in ENTRIES if one != entry}), False)
+            self.same(found.is_day({("c", 0) if one == entry else one: EARLY[one] for one in ENTRIES}), False)
         self.same([found.is_day({**EARLY, ("c", 0): 50}), found.is_day({}), found.is_day({**EARLY, X: None})], [False] * 3)
+        for value in ANYTHING:
+            self.same([found.is_day(value), found.is_day({**EARLY, X: value})], [False, type(value) is int and value == 0])
 
     def test_dicts_are_new(self):
         found = fit(TABLE)

@@ -157,6 +157,13 @@ class SlackTest(Case):
                                  (["a", 0], *tie[1:]), [tie], (tie,)]:
             self.refused(UnknownEntry(value), moments.slack, value)
 
+    def test_the_weight_is_a_number(self):
+        train = Train("a", 5, Step("west.ey.1", [1, 2]), Step("ey.ez.1", [1]), Step("ez.east.1", [4]))
+        moments = Moments(Table(Plan(LINE, train), []))
+        self.same(moments.slack((("a", 1), ("a", 2), 1, "run")), 0)
+        wrong = (("a", 1), ("a", 2), True, "run")
+        self.refused(UnknownEntry(wrong), moments.slack, wrong)
+
 
 class LongestTest(Case):
     def test_longest(self):

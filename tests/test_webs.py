@@ -2,7 +2,7 @@ import random
 import unittest
 from itertools import permutations
 
-from chances import LINE, PLACE, some_plan, some_row
+from chances import LINE, LOOP, PLACE, some_plan, some_row
 from helpers import ANYTHING, Case
 from oracles import PlainWeb
 from ringlessday.errors import Lacking, Refused, UnknownEntry
@@ -45,7 +45,7 @@ class TiesTest(Case):
         # The entry of b needs x, which the tail of a clears at 9 in the same step.
         self.same(Web(Table(plan, [])).ties(), [(("a", 0), ("b", 0), 9, "own"), (("a", 0), ("b", 0), 15, "turn")])
 
-    def test_own_within_a_train_and_along_a_chain(self):
+    def test_own_along_a_chain(self):
         first = Train("a", 25, Step("west.ey.1", [4, 9]))
         second = Train("b", 25, Step("ey.ez.1", [8]))
         third = Train("c", 25, Step("wz.wy.1", [7]), Step("wy.west.1", [6]), out=4)
@@ -53,6 +53,11 @@ class TiesTest(Case):
         self.same(Web(Table(plan, [])).ties(), [
             (("a", 0), ("b", 0), 19, "turn"), (("a", 0), ("c", 1), 9, "own"), (("b", 0), ("c", 0), 8, "own"),
             (("b", 0), ("c", 0), 28, "turn"), (("c", 0), ("c", 1), 7, "run")])
+
+    def test_own_within_a_train(self):
+        train = Train("a", 30, Step("west.s.1", [2, 3, 9], stop=4), Step("s.west.1", [1, 5]), out=2)
+        # The tail clears w and p as soon as the head is at the far end of k.
+        self.same(Web(Table(Plan(LOOP, train), [])).ties(), [(("a", 0), ("a", 1), 9, "own"), (("a", 0), ("a", 1), 13, "run")])
 
     def test_waits(self):
         plan = Plan(PLACE, A, B, waits=[("b", 1, "a", 0, 2), ("b", 1, "a", 0, 2), ("b", 1, "a", 0, 0), ("a", 2, "b", 0, 100)])
@@ -166,6 +171,11 @@ class RingTest(Case):
         strict = Web(Table(PLAN, [True, True, True, False]))
         wrong = [(("a", 2), ("b", True), 4, "clash"), (("b", True), ("a", 2), 4, "clash")]
         self.same([wrong == RING, strict.is_ring(wrong)], [True, False])
+        # The wait makes a ring of two ties of the weight 1, one of them there and one back.
+        one, other = Train("a", 5, Step("west.ey.1", [1, 2])), Train("b", 5, Step("east.wz.1", [1, 2]))
+        plan = Plan(LINE, one, other, waits=[("a", 0, "b", 0, 0), ("b", 0, "a", 0, 0)])
+        ring = Web(Table(plan, [])).ring()
+        self.same(sorted(ring), [(("a", 0), ("b", 0), 2, "wait"), (("b", 0), ("a", 0), 2, "wait")])
 
     def test_values_of_other_kinds(self):
         for value in ANYTHING + [{}, "ab", RING[0], {0: RING[0], 1: RING[1]}]:
