@@ -115,14 +115,10 @@ class AskTest(Case):
         # The tail of a is in u, and its flank is free again.
         self.same(machine.would("c"), None)
         machine.ask("c")
-        self.refused(Refused("b", "f", "c"), self.with_b_at_f(machine).ask, "b")
-
-    def with_b_at_f(self, machine):
-        """The machine behind c has gone on to f."""
         for _ in range(2):
             machine.run("c")
             machine.ask("c")
-        return machine
+        self.refused(Refused("b", "f", "c"), machine.ask, "b")
 
     def test_refused_by_several_trains(self):
         one, two = A, Train("d", 15, Step("west.su.1", [4, 5, 11]))

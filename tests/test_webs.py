@@ -168,10 +168,9 @@ class RingTest(Case):
     def test_ties_that_are_no_integers_throughout(self):
         for tie in FOR_A.ties():
             self.same(FOR_A.is_ring([tie]), False)
-        strict = Web(Table(PLAN, [True, True, True, False]))
         wrong = [(("a", 2), ("b", True), 4, "clash"), (("b", True), ("a", 2), 4, "clash")]
-        self.same([wrong == RING, strict.is_ring(wrong)], [True, False])
-        # The wait makes a ring of two ties of the weight 1, one of them there and one back.
+        self.same([wrong == RING, MEETING.is_ring(wrong)], [True, False])
+        # Two trains that wait for each other.
         one, other = Train("a", 5, Step("west.ey.1", [1, 2])), Train("b", 5, Step("east.wz.1", [1, 2]))
         plan = Plan(LINE, one, other, waits=[("a", 0, "b", 0, 0), ("b", 0, "a", 0, 0)])
         ring = Web(Table(plan, [])).ring()
