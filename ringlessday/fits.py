@@ -1,7 +1,9 @@
 """Days that keep wishes, and rings of limits where there is none."""
 
 from ringlessday.errors import InvalidWish, NoDay, UnknownEntry
-from ringlessday.names import is_entry, is_number
+from ringlessday.names import is_entry, is_integer, is_number
+from ringlessday.sums import ring_back, spread
+from ringlessday.ties import goes_round
 from ringlessday.values import fresh
 from ringlessday.webs import Web
 
@@ -80,9 +82,7 @@ class Unfit:
         known = limits_of(self._table, self._wishes)
         if not all([is_limit(row) and row in known for row in ring]):
             return False
-        begun = [row[0] for row in ring]
-        ended = [row[1] for row in ring]
-        return begun[1:] + begun[:1] == ended and sum([row[2] for row in ring]) > 0
+        return goes_round(ring) and sum([row[2] for row in ring]) > 0
 
     def __bool__(self):
         return False
@@ -131,35 +131,3 @@ def is_limit(value):
         return False
     ends = [end is None or is_entry(end) for end in value[:2]]
     return all(ends) and is_integer(value[2])
-
-
-def is_integer(value):
-    return isinstance(value, int) and not isinstance(value, bool)
-
-
-def spread(rows, many):
-    """The greatest sums from the moment 0 on, the limit that gave each, and what the last of so many rounds raised."""
-    far = {None: 0}
-    ahead = {}
-    raised = []
-    for _ in range(many):
-        raised = []
-        for row in rows:
-            if row[0] in far and (row[1] not in far or far[row[0]] + row[2] > far[row[1]]):
-                far[row[1]] = far[row[0]] + row[2]
-                ahead[row[1]] = row
-                raised.append(row[1])
-        if raised == []:
-            break
-    return far, ahead, raised
-
-
-def ring_back(ahead, raised, many):
-    """The ring on which one comes back from what the last of many rounds has raised."""
-    here = raised
-    for _ in range(many):
-        here = ahead[here][0]
-    found = [ahead[here]]
-    while found[-1][0] != here:
-        found.append(ahead[found[-1][0]])
-    return found[::-1]

@@ -17,17 +17,14 @@ class Moments:
         self.table = table
         self._web = web
         self._delays = {entry: given.get(entry, 0) for entry in table.plan.entries()}
-        self._moments = {}
-        for entry in web.row():
-            sums = [self._moments[tie[0]] + tie[2] for tie in web.into(entry)]
-            self._moments[entry] = max([self._base(entry)] + sums) + self._delays[entry]
+        self._moments = moments_with(web, self._delays)
 
     def moment(self, entry):
         self._refuse_unknown(entry)
         return self._moments[entry]
 
     def moments(self):
-        return {entry: self._moments[entry] for entry in self.table.plan.entries()}
+        return {entry: self._moments[entry] for entry in self._moments}
 
     def way(self, entry):
         self._refuse_unknown(entry)
@@ -61,12 +58,27 @@ def longest(table, one, other):
     web = runnable_web(table)
     for entry in (one, other):
         table.plan.place_of(entry)
+    return longest_from(web, one).get(other)
+
+
+def longest_from(web, one):
+    """The greatest sums of weights of ways from an entry, for the entries to which a way leads from there."""
     far = {one: 0}
     for entry in web.row():
         for tie in web.into(entry):
             if tie[0] in far:
                 far[entry] = max(far.get(entry, 0), far[tie[0]] + tie[2])
-    return far.get(other)
+    return far
+
+
+def moments_with(web, delays):
+    """The moments of all entries of a web that can be run, in their order, with delays that are not looked at."""
+    plan = web.table.plan
+    found = {}
+    for entry in web.row():
+        sums = [found[tie[0]] + tie[2] for tie in web.into(entry)]
+        found[entry] = max([plan.step_of(entry).base] + sums) + delays.get(entry, 0)
+    return {entry: found[entry] for entry in plan.entries()}
 
 
 def runnable_web(table):

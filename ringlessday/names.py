@@ -15,8 +15,13 @@ def is_name(value):
 
 
 def is_number(value, least, most):
+    return is_integer(value) and least <= value <= most
+
+
+def is_integer(value):
+    """Whether any value is a number, however great."""
     # True and False are integers to Python, but no numbers here.
-    return isinstance(value, int) and not isinstance(value, bool) and least <= value <= most
+    return isinstance(value, int) and not isinstance(value, bool)
 
 
 def is_end(value):

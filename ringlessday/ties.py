@@ -1,6 +1,6 @@
 """The ties between the entries of a plan, and rows and rings of ties."""
 
-from ringlessday.names import is_entry
+from ringlessday.names import is_entry, is_integer
 
 
 def chain_ties(plan):
@@ -19,12 +19,19 @@ def chain_ties(plan):
 
 def own_ties(plan):
     found = []
+    for entry, later in chain_pairs(plan):
+        found.extend(clear_ties(plan, entry, later, "own"))
+    return found
+
+
+def chain_pairs(plan):
+    """All pairs of entries of one chain, the one that goes ahead first."""
+    found = []
     for name in plan.trains():
         chain = plan.chain(name)
         ahead = [entry for link in chain[:chain.index(name)] for entry in entries_of(plan, link)]
         for later in entries_of(plan, name):
-            for entry in ahead:
-                found.extend(clear_ties(plan, entry, later, "own"))
+            found.extend([(entry, later) for entry in ahead])
             ahead.append(later)
     return found
 
@@ -53,7 +60,19 @@ def is_tie(value):
     """Whether any value has the form of a tie."""
     if not isinstance(value, tuple) or len(value) != 4 or not is_entry(value[0]) or not is_entry(value[1]):
         return False
-    return isinstance(value[2], int) and not isinstance(value[2], bool) and isinstance(value[3], str)
+    return is_integer(value[2]) and isinstance(value[3], str)
+
+
+def goes_round(ties):
+    """Whether each of some ties begins where the one ahead ends, and the first one where the last one ends."""
+    begun = [tie[0] for tie in ties]
+    ended = [tie[1] for tie in ties]
+    return begun[1:] + begun[:1] == ended
+
+
+def is_simple_ring(ties):
+    """Whether some ties go round and none begins where another one begins; no ties at all are no ring."""
+    return len(ties) > 0 and goes_round(ties) and len(set([tie[0] for tie in ties])) == len(ties)
 
 
 def row_through(entries, ties):

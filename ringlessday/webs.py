@@ -3,7 +3,7 @@
 from ringlessday.errors import UnknownEntry
 from ringlessday.names import is_entry
 from ringlessday.orders import pairs
-from ringlessday.ties import bars_of, chain_ties, clear_ties, is_tie, ring_through, row_through
+from ringlessday.ties import bars_of, chain_ties, clear_ties, is_simple_ring, is_tie, ring_through, row_through
 
 
 class Web:
@@ -54,13 +54,9 @@ class Web:
         return self._bars == [] and self._ring is None
 
     def is_ring(self, value):
-        if not isinstance(value, (list, tuple)) or len(value) == 0:
+        if not isinstance(value, (list, tuple)) or not all([self.has_tie(tie) for tie in value]):
             return False
-        if not all([self.has_tie(tie) for tie in value]):
-            return False
-        begun = [tie[0] for tie in value]
-        ended = [tie[1] for tie in value]
-        return begun[1:] + begun[:1] == ended and len(set(begun)) == len(begun)
+        return is_simple_ring(value)
 
     def has_tie(self, value):
         """Whether any value is a tie of the web."""

@@ -1,9 +1,14 @@
 """Layouts and plans for the tests that go over many plans."""
 
+import random
+
 from helpers import PASSING_PLACE, track_of
 from ringlessday.errors import DayError
 from ringlessday.layouts import Layout
+from ringlessday.orders import Table
 from ringlessday.plans import Plan
+from ringlessday.safety import Safety
+from ringlessday.standings import after, lets
 from ringlessday.tracktext import read_track
 from ringlessday.trains import Step, Train
 
@@ -120,3 +125,30 @@ def some_row(chance, plan):
         row.append(ahead)
         left.remove(ahead)
     return row
+
+
+def some_led_row(chance, plan):
+    """A row of entries at random that the machine plays, or None if no row leads to the end."""
+    safety = Safety(plan)
+    standing = (0,) * len(plan)
+    if not safety.is_safe(standing):
+        return None
+    row = []
+    while len(row) < len(plan.entries()):
+        trains = [train for train in lets(plan, standing) if safety.is_safe(after(plan, standing, train))]
+        train = chance.choice(trains)
+        row.append((train, standing[plan.trains().index(train)]))
+        standing = after(plan, standing, train)
+    return row
+
+
+def led_days(many, most_entries=36, **more):
+    """Tables without bar and ring of plans at random that have no more entries."""
+    found = []
+    for seed in range(many):
+        chance = random.Random(seed)
+        plan = some_plan(chance, **more)
+        row = some_led_row(chance, plan) if 1 <= len(plan.entries()) <= most_entries else None
+        if row:
+            found.append(Table.of_row(plan, row))
+    return found

@@ -1,6 +1,6 @@
 """What the document says of machines and standings, written down once more in the plainest way, for comparison."""
 
-from itertools import combinations
+from itertools import combinations, product
 
 from ringlessday.errors import Finished, Lacking, NothingLeft, Refused, Unready
 
@@ -353,3 +353,24 @@ def table_pairs(plan):
     """The pairs of a plan, by their definition."""
     return [(one, other) for one, other in combinations(plan.entries(), 2)
             if chains_differ(plan, one, other) and disagreements(plan.demand_of(one), plan.demand_of(other))]
+
+
+def plain_moments(table, plain, delays):
+    """The moments of all entries with delays, in a web without bar and ring, by their definition."""
+    told = {}
+    for entry in plain.row():
+        sums = [told[tie[0]] + tie[2] for tie in plain.ties if tie[1] == entry]
+        told[entry] = max([table.plan.step_of(entry).base, *sums]) + delays.get(entry, 0)
+    return told
+
+
+def all_delays(bounds):
+    """All delays that are not above their bounds, those of 0 left out."""
+    entries = list(bounds)
+    for numbers in product(*[range(bounds[entry] + 1) for entry in entries]):
+        yield {entry: number for entry, number in zip(entries, numbers) if number}
+
+
+def late_ones(delays, of):
+    """How many entries, or trains, have a delay above 0."""
+    return len({entry if of == "steps" else entry[0] for entry in delays if delays[entry] > 0})

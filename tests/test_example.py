@@ -31,12 +31,13 @@ EXAMPLE = r'''
 >>> from ringlessday.orders import Table, pairs
 >>> from ringlessday.tables import forced, tables
 >>> from ringlessday.moments import Moments
+>>> from ringlessday.lateness import latest
 >>> [pairs(plan), [table.firsts() for table in tables(plan)], forced(plan, [None, None, None, True])]
 [[(('a', 0), ('b', 1)), (('a', 0), ('b', 2)), (('a', 1), ('b', 1)), (('a', 2), ('b', 0))], [[False, False, False, False], [True, True, True, True]], [True, True, True, True]]
 >>> table = Table(plan, [True, True, True, True])
 >>> moments = Moments(table)
->>> [moments.moment(entry) for entry in plan.entries()]
-[0, 11, 16, 23, 27, 38]
+>>> [[moments.moment(entry) for entry in plan.entries()], latest(table, ("b", 2), {("a", 1): 10, ("b", 0): 4}), latest(table, ("b", 2), {("a", 1): 10, ("b", 0): 4}, late=2)]
+[[0, 11, 16, 23, 27, 38], 48, 52]
 '''
 
 

@@ -19,6 +19,14 @@ FUNCTIONS = {
     "tables": {"tables": "(plan)", "forced": "(plan, known)"},
     "moments": {"longest": "(table, one, other)"},
     "fits": {"limits": "(table, *wishes)", "fit": "(table, *wishes)"},
+    "lateness": {"latest": "(table, entry, bounds, *, late=1, of='steps')",
+                 "worst": "(table, entry, bounds, *, late=1, of='steps')",
+                 "keeps": "(delays, bounds, *, late=1, of='steps')"},
+    "papers": {"paper": "(table, bounds, *, late=1)"},
+    "buffers": {"buffer": "(table, one, other)", "reach": "(table, entry)", "needless": "(table, delays, entry)",
+                "tightest": "(table)"},
+    "profiles": {"profile": "(table, entry)", "outdone": "(one, other)", "moment_by": "(profile, delays)"},
+    "alike": {"alike_at": "(one, other, entry)", "alike": "(one, other)", "parting": "(one, other, entry)"},
 }
 NO_ARGUMENTS = "(self)"
 MACHINE = {
@@ -88,12 +96,18 @@ CLASSES = {
                 "is_day": "(self, moments)", "__bool__": NO_ARGUMENTS},
         "Unfit": {"__init__": "(self, table, wishes, ring)", "ring": NO_ARGUMENTS, "holds": NO_ARGUMENTS,
                   "__bool__": NO_ARGUMENTS}},
+    "papers": {"Paper": {
+        "__init__": "(self, table, bounds, numbers)", "numbers": NO_ARGUMENTS, "holds": NO_ARGUMENTS,
+        "number": "(self, entry, late)"}},
+    "sightings": {"Sightings": {
+        "__init__": "(self, table, seen)", "seen": NO_ARGUMENTS, "ring": NO_ARGUMENTS, "range_of": "(self, entry)",
+        "surely_late": NO_ARGUMENTS, "blamed": "(self, entry)"}},
 }
 CLASS_METHODS = {"orders": {"Table": {"of_row": "(plan, row)"}}}
 OF_MACHINES = ["standing", "free", "is_over", "busy"]
 PROPERTIES = {"trains": {"Step": ["arrival", "base"]}, "locks": {"Locks": ["free"]}, "machine": {"Machine": OF_MACHINES},
               "guards": {"GuardedMachine": OF_MACHINES}, "safety": {"Safety": ["never_sticks"]},
-              "webs": {"Web": ["is_runnable"]}, "moments": {"Moments": ["last"]}}
+              "webs": {"Web": ["is_runnable"]}, "moments": {"Moments": ["last"]}, "sightings": {"Sightings": ["agrees"]}}
 GENERATORS = {"walks": "walks", "standings": "entry_rows", "tables": "tables"}
 KINDS = ["Plain", "Point", "Crossing"]
 
