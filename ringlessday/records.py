@@ -3,6 +3,7 @@
 from ringlessday.errors import DayError, InvalidRow, InvalidText, Missing, NothingLeft
 from ringlessday.machine import Machine
 from ringlessday.names import is_entry
+from ringlessday.words import rows_of
 
 
 def record_text(machine):
@@ -10,16 +11,10 @@ def record_text(machine):
 
 
 def play_record(plan, text):
-    if not isinstance(text, str):
-        raise InvalidText(0)
     machine = Machine(plan)
-    rows = text.split("\n")
-    unended = rows.pop()
-    for at, row in enumerate(rows):
-        if not is_played(machine, row):
+    for at, row in enumerate(rows_of(text)):
+        if row is None or not is_played(machine, row):
             raise InvalidText(at + 1)
-    if unended != "":
-        raise InvalidText(len(rows) + 1)
     return machine
 
 

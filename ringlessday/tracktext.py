@@ -3,7 +3,7 @@
 from ringlessday.errors import DayError, InvalidText, Missing
 from ringlessday.sections import Crossing, Plain, Point
 from ringlessday.track import Track
-from ringlessday.words import end_word, number_word, word_of_end
+from ringlessday.words import end_word, number_word, rows_of, word_of_end
 
 # Lines stand in the order of these ranks.
 RANKS = {"plain": 1, "point": 1, "crossing": 1, "joint": 2, "border": 3, "signal": 3}
@@ -19,16 +19,10 @@ def track_text(track):
 
 
 def read_track(text):
-    if not isinstance(text, str):
-        raise InvalidText(0)
     reader = TrackReader()
-    rows = text.split("\n")
-    unended = rows.pop()
-    for at, row in enumerate(rows):
-        if not reader.take(row):
+    for at, row in enumerate(rows_of(text)):
+        if row is None or not reader.take(row):
             raise InvalidText(at + 1)
-    if unended != "":
-        raise InvalidText(len(rows) + 1)
     return reader.ground
 
 

@@ -1,4 +1,4 @@
-"""The part of "A worked example" that uses the modules that there are, as it is printed in the document."""
+"""The whole of "A worked example", as it is printed in the document."""
 
 import doctest
 import unittest
@@ -38,6 +38,10 @@ EXAMPLE = r'''
 >>> moments = Moments(table)
 >>> [[moments.moment(entry) for entry in plan.entries()], latest(table, ("b", 2), {("a", 1): 10, ("b", 0): 4}), latest(table, ("b", 2), {("a", 1): 10, ("b", 0): 4}, late=2)]
 [[0, 11, 16, 23, 27, 38], 48, 52]
+>>> from ringlessday.desk import Desk
+>>> desk = Desk(plan)
+>>> [desk("enter a"), desk("enter b"), desk("choices"), desk("row"), desk("least b.2"), desk("still"), desk("enter x"), desk("names")]
+['a.0 at 0', 'error Barred', 'a', 'a.1 a.2 b.0 b.1 b.2', '38', 'first first first first', 'error UnknownName', 'unknown']
 '''
 
 

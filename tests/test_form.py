@@ -32,6 +32,7 @@ BARRED_WORDS = set(
     "NamedTuple TypedDict TYPE_CHECKING abstractmethod".split())
 STATEMENTS = (ast.Assign, ast.AugAssign, ast.If, ast.While, ast.For, ast.Return, ast.Break, ast.Continue, ast.Pass,
               ast.Raise, ast.Assert, ast.Delete, ast.Try, ast.Expr, ast.FunctionDef, ast.ClassDef, ast.ImportFrom)
+LIBRARY = {"math": ["gcd"]}
 AT_ONCE = set("list tuple dict sorted sum any all enumerate zip min max".split())
 ITERATED_AT_ONCE = set("zip enumerate reversed range items keys values".split())
 
@@ -105,10 +106,11 @@ class FormTest(unittest.TestCase):
             others = [node for node in form.tree.body if not isinstance(node, ast.ImportFrom)]
             for node in form.imports:
                 module = re.fullmatch(r"ringlessday\.([a-z]+)", node.module)
-                self.check("L2", form, node, module and node.level == 0 and node in form.tree.body)
+                self.check("L2", form, node, node.level == 0 and node in form.tree.body)
                 self.check("L2", form, node, all(node.lineno < other.lineno for other in others[1:]))
                 for alias in node.names:
-                    self.check("L16", form, node, alias.asname is None and alias.name in files[module[1]].defined())
+                    known = files[module[1]].defined() if module else LIBRARY.get(node.module, [])
+                    self.check("L16", form, node, alias.asname is None and alias.name in known)
             self.assertEqual(form.nodes(ast.Import), [], "L2")
             self.assertEqual(len(form.imported), len(set(form.imported)), f"L15: {form.name}")
             for name in form.imported:
@@ -130,11 +132,19 @@ class FormTest(unittest.TestCase):
                 self.check("L3", form, node, isinstance(node, kinds))
                 if isinstance(node, ast.Assign):
                     self.check("L3", form, node, len(node.targets) == 1 and isinstance(node.targets[0], ast.Name))
-                    ast.literal_eval(node.value)
+                    self.check("L3", form, node, self.is_plain(form, node.value, node.lineno))
                 if isinstance(node, ast.Expr):
                     self.check("L3", form, node, isinstance(node.value, ast.Constant))
             names = form.defined() + form.imported
             self.assertEqual(len(names), len(set(names)), f"L15: {form.name}")
+
+    def is_plain(self, form, value, line):
+        """Whether a value can stand at module level: a literal, or a dict of functions that are defined above."""
+        if isinstance(value, ast.Dict) and all(isinstance(part, ast.Name) for part in value.values):
+            above = [node.name for node in form.functions if node in form.tree.body and node.lineno < line]
+            return all(part.id in above for part in value.values) and all(map(ast.literal_eval, value.keys))
+        ast.literal_eval(value)
+        return True
 
     def test_statements(self):
         for form in FORMS:

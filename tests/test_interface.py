@@ -2,6 +2,7 @@
 
 import importlib
 import inspect
+import re
 import unittest
 
 FUNCTIONS = {
@@ -27,6 +28,7 @@ FUNCTIONS = {
                 "tightest": "(table)"},
     "profiles": {"profile": "(table, entry)", "outdone": "(one, other)", "moment_by": "(profile, delays)"},
     "alike": {"alike_at": "(one, other, entry)", "alike": "(one, other)", "parting": "(one, other, entry)"},
+    "pages": {"plan_page": "(plan)", "read_plan": "(text)", "board": "(day)"},
 }
 NO_ARGUMENTS = "(self)"
 MACHINE = {
@@ -102,14 +104,47 @@ CLASSES = {
     "sightings": {"Sightings": {
         "__init__": "(self, table, seen)", "seen": NO_ARGUMENTS, "ring": NO_ARGUMENTS, "range_of": "(self, entry)",
         "surely_late": NO_ARGUMENTS, "blamed": "(self, entry)"}},
+    "ratios": {"Ratio": {
+        "__init__": "(self, top, bottom=1)", "over": "(self, other)", "compare": "(self, other)", "ceiling": NO_ARGUMENTS,
+        "floor": NO_ARGUMENTS, "__add__": "(self, other)", "__radd__": "(self, other)", "__sub__": "(self, other)",
+        "__rsub__": "(self, other)", "__mul__": "(self, other)", "__rmul__": "(self, other)",
+        "__floordiv__": "(self, other)", "__neg__": NO_ARGUMENTS, "__abs__": NO_ARGUMENTS, "__bool__": NO_ARGUMENTS,
+        "__eq__": "(self, other)", "__str__": NO_ARGUMENTS, "__repr__": NO_ARGUMENTS}},
+    "rounds": {"RoundWeb": {
+        "__init__": "(self, plan, heights)", "heights": NO_ARGUMENTS, "ties": NO_ARGUMENTS, "bar": NO_ARGUMENTS,
+        "least": NO_ARGUMENTS, "critical": NO_ARGUMENTS, "fits": "(self, period)", "moments": "(self, period)",
+        "ring_above": "(self, period)", "is_ring": "(self, value)"}},
+    "rota": {"Rota": {
+        "__init__": "(self, journeys, change=0)", "journeys": NO_ARGUMENTS, "can_follow": "(self, later, earlier)",
+        "links": NO_ARGUMENTS, "sets": NO_ARGUMENTS, "cover": NO_ARGUMENTS, "is_cover": "(self, value)"}},
+    "led": {"LedDay": {
+        "__init__": "(self, plan, *, guarded=True)", "enter": "(self, train, *, late=0)", "enter_all": "(self, *trains)",
+        "preview": "(self, *trains)", "made": NO_ARGUMENTS, "moment": "(self, entry)", "orders": NO_ARGUMENTS,
+        "still": NO_ARGUMENTS, "choices": NO_ARGUMENTS, "goes_on": "(self, table)",
+        "outlook": "(self, table, bounds=None, *, late=0)", "undo": NO_ARGUMENTS, "redo": NO_ARGUMENTS,
+        "history": NO_ARGUMENTS, "twin": NO_ARGUMENTS, "course": NO_ARGUMENTS, "__repr__": NO_ARGUMENTS}},
+    "desk": {"Desk": {
+        "__init__": "(self, plan, *, guarded=True)", "set_spare": "(self, value)", "say": "(self, line)",
+        "__call__": "(self, line)", "log": NO_ARGUMENTS, "__len__": NO_ARGUMENTS, "__bool__": NO_ARGUMENTS,
+        "__repr__": NO_ARGUMENTS}},
 }
-CLASS_METHODS = {"orders": {"Table": {"of_row": "(plan, row)"}}}
+CLASS_METHODS = {"orders": {"Table": {"of_row": "(plan, row)"}}, "ratios": {"Ratio": {"read": "(text)"}}}
 OF_MACHINES = ["standing", "free", "is_over", "busy"]
 PROPERTIES = {"trains": {"Step": ["arrival", "base"]}, "locks": {"Locks": ["free"]}, "machine": {"Machine": OF_MACHINES},
               "guards": {"GuardedMachine": OF_MACHINES}, "safety": {"Safety": ["never_sticks"]},
-              "webs": {"Web": ["is_runnable"]}, "moments": {"Moments": ["last"]}, "sightings": {"Sightings": ["agrees"]}}
+              "webs": {"Web": ["is_runnable"]}, "moments": {"Moments": ["last"]}, "sightings": {"Sightings": ["agrees"]},
+              "rota": {"Rota": ["fewest"]}, "led": {"LedDay": ["standing", "safe_now", "is_over"]},
+              "desk": {"Desk": ["spare"]}}
 GENERATORS = {"walks": "walks", "standings": "entry_rows", "tables": "tables"}
 KINDS = ["Plain", "Point", "Crossing"]
+CLASS_VALUES = {"sections": {"Section": {"KIND": "none", "MOST": 50}}, "layouts": {"Layout": {"MOST": 24}},
+                "track": {"Track": {"SECTIONS": 24, "POINTS": 8, "MARKS": 12}}, "plans": {"Plan": {"TRAINS": 6}},
+                "trains": {"Train": {"STEPS": 6, "LENGTH": 60}}, "safety": {"Safety": {"MOST": 4000}},
+                "rota": {"Rota": {"MOST": 40}}}
+# The files in the order of the document; each one needs only those ahead of it.
+FILES = ("errors names sections track tracktext walks routes layouts trains clears plans locks machine records standings "
+         "safety guards orders webs tables moments fits lateness papers buffers profiles alike sightings ratios rounds rota "
+         "led pages desk").split()
 
 
 def file_of(name):
@@ -146,6 +181,21 @@ class InterfaceTest(unittest.TestCase):
             for name, properties in classes.items():
                 for one in properties:
                     self.assertIsInstance(vars(getattr(file_of(file), name))[one], property)
+
+    def test_class_values(self):
+        for file, classes in CLASS_VALUES.items():
+            for name, values in classes.items():
+                self.assertEqual({value: getattr(getattr(file_of(file), name), value) for value in values}, values)
+
+    def test_each_file_needs_only_those_ahead_of_it(self):
+        for at, name in enumerate(FILES):
+            met, left = set(), [name]
+            while left:
+                source = inspect.getsource(file_of(left.pop()))
+                new = set(re.findall(r"^from ringlessday\.(\w+) import", source, re.MULTILINE)) - met
+                met |= new
+                left += new
+            self.assertEqual([other for other in met if other in FILES[at:]], [], name)
 
     def test_kinds_of_sections(self):
         for name in KINDS:
