@@ -1,7 +1,7 @@
 """Tables that always give the same moments, and delays that part those that do not."""
 
 from ringlessday.moments import runnable_web
-from ringlessday.profiles import outdone, profile, refuse_many
+from ringlessday.profiles import outdone, profile
 
 
 def alike_at(one, other, entry):
@@ -10,7 +10,6 @@ def alike_at(one, other, entry):
 
 
 def alike(one, other):
-    refuse_both(one, other)
     return all([alike_at(one, other, entry) for entry in one.plan.entries()])
 
 
@@ -23,15 +22,10 @@ def parting(one, other, entry):
     return None
 
 
-def refuse_both(one, other):
-    """Raises the errors of two tables, those of the first one ahead of those of the second one."""
+def both_profiles(one, other, entry):
+    # That a table has no day comes ahead of all else that a profile refuses.
     for table in (one, other):
         runnable_web(table)
-    refuse_many(one.plan)
-
-
-def both_profiles(one, other, entry):
-    refuse_both(one, other)
     return profile(one, entry), profile(other, entry)
 
 

@@ -1,13 +1,11 @@
 """Days that keep wishes, and rings of limits where there is none."""
 
 from ringlessday.errors import InvalidWish, NoDay, UnknownEntry
-from ringlessday.names import is_entry, is_integer, is_number
+from ringlessday.names import MOST_MOMENT, is_entry, is_integer, is_number
 from ringlessday.sums import ring_back, spread
 from ringlessday.ties import goes_round
 from ringlessday.values import fresh
 from ringlessday.webs import Web
-
-MOST_MOMENT = 1000000000
 
 
 def limits(table, *wishes):

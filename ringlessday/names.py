@@ -6,6 +6,8 @@ MOST_LETTERS = 6
 MOST_STEPS = 6
 # The limit of times, stops, public moments, turns and waits.
 MOST_TIME = 1000000
+# The limit of the moments of wishes, sightings and journeys.
+MOST_MOMENT = 1000000000
 
 
 def is_name(value):

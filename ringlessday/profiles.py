@@ -8,9 +8,10 @@ MOST_ENTRIES = 14
 
 def profile(table, entry):
     web = runnable_web(table)
-    refuse_many(table.plan)
-    table.plan.place_of(entry)
     entries = table.plan.entries()
+    if len(entries) > MOST_ENTRIES:
+        raise TooMany("entries", MOST_ENTRIES)
+    table.plan.place_of(entry)
     found = stops_and_sums(web)[entry]
     rows = sorted([(places_of(stops, len(entries)), total) for stops, total in found])
     return [(tuple([entries[at] for at in places]), total) for places, total in rows]
@@ -24,11 +25,6 @@ def outdone(one, other):
 def moment_by(profile, delays):
     moments = [total + sum([delays.get(stop, 0) for stop in stops]) for stops, total in profile]
     return max(moments, default=0)
-
-
-def refuse_many(plan):
-    if len(plan.entries()) > MOST_ENTRIES:
-        raise TooMany("entries", MOST_ENTRIES)
 
 
 def stops_and_sums(web):

@@ -1,9 +1,7 @@
 """Journeys of sets of carriages, and rotas with the fewest sets."""
 
 from ringlessday.errors import InvalidJourney, InvalidNumber, UnknownName
-from ringlessday.names import MOST_TIME, is_name, is_number
-
-MOST_MOMENT = 1000000000
+from ringlessday.names import MOST_MOMENT, MOST_TIME, is_name, is_number
 
 
 class Rota:
@@ -53,13 +51,19 @@ class Rota:
         return (sorted([name for name in self._journeys if name not in earlier]), sorted(later))
 
     def is_cover(self, value):
-        if not isinstance(value, tuple) or len(value) != 2 or not all([are_names(names) for names in value]):
+        if not isinstance(value, tuple) or len(value) != 2 or not all([self._are_names(names) for names in value]):
             return False
         first, second = value
         for name in self._onward:
             if name not in first and not all([later in second for later in self._onward[name]]):
                 return False
         return True
+
+    def _are_names(self, value):
+        """Whether any value is a list of different names of journeys."""
+        if not isinstance(value, (list, tuple)):
+            return False
+        return all([is_name(name) and name in self._journeys for name in value]) and len(set(value)) == len(value)
 
     def _followers(self, name):
         found = []
@@ -87,13 +91,6 @@ def is_journey(value):
     if not is_name(name) or not is_name(place) or not is_name(goal):
         return False
     return is_number(start, 0, MOST_MOMENT) and is_number(end, 0, MOST_MOMENT) and start < end
-
-
-def are_names(value):
-    """Whether any value is a list of different names."""
-    if not isinstance(value, (list, tuple)) or not all([is_name(name) for name in value]):
-        return False
-    return len(set(value)) == len(value)
 
 
 def greatest_matching(onward):

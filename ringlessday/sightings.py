@@ -2,8 +2,9 @@
 
 from ringlessday.delays import are_numbers
 from ringlessday.errors import InvalidDelays
-from ringlessday.fits import MOST_MOMENT, fit
+from ringlessday.fits import fit
 from ringlessday.moments import runnable_web
+from ringlessday.names import MOST_MOMENT
 
 
 class Sightings:

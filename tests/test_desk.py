@@ -121,7 +121,8 @@ class UnknownTest(Case):
                  "least a.01", "least a.-1", "least a.0 ", "least a.0 1", "least  a.0", "least A.0", "least a.0.0", "least a 0",
                  "least abcdefg.0", "latest", "latest a.0", "latest a.0 ", "latest a.0 01", "latest a.0 -1", "latest a.0 x",
                  "latest a.0 1 2", "latest 1 a.0", "latest a 1", "latest a.x 1", "latest a.0  1", "spare", "spare ", "spare x",
-                 "spare 05", "spare -5", "spare 5 6", "spare  5", "spare a.0", "latest a.0 1\n", "spare 5\n", "spare +5"]
+                 "spare 05", "spare -5", "spare 5 6", "spare  5", "spare a.0", "latest a.0 1\n", "spare 5\n", "spare +5",
+                 "most a.0", "most a.0 1", "enter a.0 1", "spare a.0 1", "undo a.0 1", "Least a.0", "Latest a.0 1", "names a"]
         wrong += [form.format(line) for line in LINES for form in ("{} ", " {}", "{} 1", "{} a", "{}\n", "{}s", "{}  ", "\n{}")]
         wrong += [line.upper() for line in LINES] + [line[:-1] for line in LINES]
         desk = Desk(PLAN)

@@ -176,6 +176,22 @@ class FormTest(unittest.TestCase):
                     self.check("L5", form, node, "__iter__" in names)
         self.assertEqual(OWN_METHODS & OWN_ATTRIBUTES, set(), "L18")
 
+    def test_double_underscore_methods(self):
+        for form in FORMS:
+            for node in form.functions:
+                returns = [inner.value for inner in ast.walk(node) if isinstance(inner, ast.Return)]
+                changes = [inner for inner in ast.walk(node) if isinstance(inner, (ast.Assign, ast.AugAssign, ast.Delete))]
+                if node.name in ("__eq__", "__repr__", "__str__", "__len__"):
+                    self.check("L28", form, node, changes == [] and isinstance(node.body[-1], ast.Return))
+                if node.name in ("__repr__", "__str__"):
+                    self.check("L28", form, node, all(isinstance(value, ast.JoinedStr) for value in returns))
+                if node.name == "__len__":
+                    self.check("L28", form, node, all(getattr(value.func, "id", "") == "len" for value in returns))
+                if node.name == "__init__":
+                    self.check("L28", form, node, returns == [])
+                if node.name.startswith("__r") and node.name != "__repr__":
+                    self.check("L5", form, node, form.parents[node].bases == [])
+
     def test_expressions(self):
         for form in FORMS:
             for node in form.nodes(ast.Constant):

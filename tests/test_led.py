@@ -3,14 +3,16 @@ import unittest
 
 from chances import LINE, PLACE, some_plan
 from helpers import ANYTHING, Case
-from oracles import PlainStandings, PlainWeb, disagreements, late_ones, all_delays, table_pairs
+from oracles import PlainStandings, PlainWeb, all_delays, disagreements, late_ones, table_pairs
 from ringlessday.errors import (Barred, DayError, Doomed, Finished, InvalidDelays, InvalidNumber, InvalidTable, Lacking,
                                 NothingLeft, Refused, TooMany, UnknownEntry, UnknownName)
 from ringlessday.led import LedDay
 from ringlessday.moments import Moments
 from ringlessday.orders import Table
 from ringlessday.plans import Plan
+from ringlessday.records import play_row
 from ringlessday.safety import Safety
+from ringlessday.standings import after, entry_rows
 from ringlessday.trains import Step, Train
 from ringlessday.webs import Web
 from test_lateness import NO_COUNTS, NO_DELAYS, NO_ENTRIES
@@ -295,6 +297,46 @@ class AnswersTest(Case):
                     self.same(day.safe_now, True)
                 self.same(day.is_over, True)
                 self.same(Web(day.course()).is_runnable, True)
+
+    def test_a_day_to_the_end_is_a_day_of_its_course(self):
+        told = 0
+        for seed in range(200):
+            chance = random.Random(seed)
+            plan = some_plan(chance)
+            day, delays = LedDay(plan), {}
+            while day.choices():
+                train, late = chance.choice(day.choices()), chance.choice([0, 0, 4, 30])
+                day.enter(train, late=late)
+                delays[day.made()[-1][0]] = late
+            if day.is_over:
+                row = [entry for entry, _ in day.made()]
+                self.same(day.course().firsts(), Table.of_row(plan, row).firsts())
+                self.same(day.orders(), day.course().firsts())
+                self.same(Moments(day.course(), delays).moments(), {entry: day.moment(entry) for entry in plan.entries()})
+                self.same(play_row(plan, row).is_over, True)
+                told += len(row) > 3
+        self.assertGreater(told, 60)
+
+    def test_what_is_barred_is_finished_by_no_row(self):
+        told = 0
+        for seed in range(200):
+            plan, chance = small_plan(seed), random.Random(seed)
+            day = LedDay(plan)
+            while day.safe_now:
+                for train in plan.trains():
+                    try:
+                        day.preview(train)
+                    except Barred:
+                        self.same(list(entry_rows(plan, after(plan, day.standing, train))), [])
+                        told += 1
+                    except DayError:
+                        pass
+                    else:
+                        self.assertNotEqual(list(entry_rows(plan, after(plan, day.standing, train))), [])
+                if not day.choices():
+                    break
+                day.enter(chance.choice(day.choices()))
+        self.assertGreater(told, 20)
 
     def test_a_plan_without_trains(self):
         day = LedDay(NONE.plan)

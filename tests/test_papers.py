@@ -139,7 +139,8 @@ class NumbersTest(Case):
     def test_a_table_with_a_bar_or_a_ring(self):
         great = {entry: [10 ** 9, 10 ** 9] for entry in ENTRIES}
         self.same([Paper(RING, {}, great).holds(), Paper(RING, {}, great).numbers()], [False, great])
-        self.same(Paper(BAR, {}, {entry: [10 ** 9] for entry in BAR.plan.entries()}).holds(), False)
+        # All ties are kept, so only the bar is left.
+        self.same(Paper(BAR, {}, {("a", 0): [0], ("b", 0): [10 ** 9]}).holds(), False)
         self.same(Paper(BAR, {}, None).holds(), False)
 
     def test_a_plan_without_trains(self):

@@ -151,17 +151,19 @@ class CoverTest(Case):
     def test_both_ways(self):
         # one before two, one before three, two before four
         rota = Rota(DAY)
-        for value, told in ((["one", "two"], []), True), ((["one"], ["four"]), True), (([], ["two", "three", "four"]), True), \
-                ((["one"], []), False), (([], ["two", "four"]), False), ((["two"], ["one"]), False), \
-                ((["one", "two", "three", "four"], ["one", "two", "three", "four"]), True), \
-                ((["two"], ["three", "two"]), True), (([], []), False), (([], ["one", "two"]), False), \
-                ((("one", "two"), ()), True), ((("two", "one"), ["three"]), True):
-            self.same(rota.is_cover(value), told)
+        names = ["one", "two", "three", "four"]
+        for value in ((["one", "two"], []), (["one"], ["four"]), ([], ["two", "three", "four"]), (names, names),
+                      (["two"], ["three", "two"]), (("one", "two"), ()), (("two", "one"), ["three"])):
+            self.same(rota.is_cover(value), True)
+        for value in ((["one"], []), ([], ["two", "four"]), (["two"], ["one"]), ([], []), ([], ["one", "two"])):
+            self.same(rota.is_cover(value), False)
         self.same(rota.is_cover(value=(["one", "two"], [])), True)
 
     def test_other_values(self):
         rota = Rota(DAY)
         right = ["one", "two"]
+        self.same([rota.is_cover((right, [])), rota.is_cover((right, ["five"])), rota.is_cover((right + ["nobody"], []))],
+                  [True, False, False])
         for value in ANYTHING + [[right, []], (right,), (right, [], []), (right, None), (None, right), ("one", []),
                                  (right, "two"), (right, 5), (["one", "two", "two"], []), (right, ["one", "one"]),
                                  (["one", "two", None], []), (right, [True]), (right, [5]), (right, ["Two"]), (right, [""]),

@@ -363,7 +363,8 @@ class RingTest(Case):
         for value in ([], [one], [other], self.RING * 2, self.RING + [one], [one, one], [list(one), other], [one, None],
                       [(*one[:2], 10, 0, "run"), other], [(*one[:3], 1, "run"), other], [(*one[:4], "own"), other],
                       [one[:4], other], [(*one, 0), other], [(*one[:3], False, "run"), other], [one, (*other[:3], True, "again")],
-                      [(("a", False), *one[1:]), other], [(*one[:2], "11", 0, "run"), other], [(None, *one[1:]), other],
+                      [(("a", False), *one[1:]), other], [(A0, ("a", True), *one[2:]), other], [(A0, ["a", 1], *one[2:]), other],
+                      [(*one[:2], "11", 0, "run"), other], [(None, *one[1:]), other],
                       [one, (*other[:4], ["again"])], [one, (*other[:4], None)], {one: other}, (one, [other])):
             self.same(FIRST.is_ring(value), False)
 
