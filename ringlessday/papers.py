@@ -65,7 +65,10 @@ def are_rows(plan, value):
     if not all([is_entry(entry) and entry in entries for entry in value]):
         return False
     rows = list(value.values())
-    return all([are_numbers(row) and len(row) == len(rows[0]) for row in rows])
+    # What is no list may have no length, so the kinds of all rows are looked at ahead of their lengths.
+    if not all([are_numbers(row) for row in rows]):
+        return False
+    return all([len(row) == len(rows[0]) for row in rows])
 
 
 def are_numbers(value):

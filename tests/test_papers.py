@@ -117,7 +117,8 @@ class NumbersTest(Case):
                    {entry: [] for entry in ENTRIES}, {**NUMBERS, ("b", 2): []}, {entry: None for entry in ENTRIES}]
         changed += [{one: NUMBERS[one] for one in ENTRIES if one != entry} for entry in ENTRIES]
         changed += [{(("c", 0) if one == entry else one): NUMBERS[one] for one in ENTRIES} for entry in ENTRIES]
-        changed += [{**NUMBERS, ("b", 2): value} for value in ANYTHING]
+        changed += [{**NUMBERS, entry: value} for entry in ENTRIES for value in ANYTHING]
+        changed += [{entry: value for entry in ENTRIES} for value in ANYTHING]
         changed += [{**NUMBERS, ("b", 2): [value, 99]} for value in ANYTHING if type(value) is not int]
         changed += [{**NUMBERS, ("b", 2): [38, value]} for value in ANYTHING if type(value) is not int]
         for value in changed:
